@@ -1,0 +1,182 @@
+"""Webs, hueings and odd things to ask of, and the ways in which the tests ask."""
+
+import itertools
+import random
+import unittest
+
+from huedties.errors import HueError
+
+NOTHING = (0, ())
+LONE = (1, ())
+APART = (4, ())
+ONE_TIE = (2, ((0, 1),))
+PATH = (4, ((0, 1), (1, 2), (2, 3)))
+STAR = (5, ((0, 1), (0, 2), (0, 3), (0, 4)))
+TRIANGLE = (3, ((0, 1), (1, 2), (0, 2)))
+SQUARE = (4, ((0, 1), (1, 2), (2, 3), (0, 3)))
+FIVE = (5, ((0, 1), (1, 2), (2, 3), (3, 4), (0, 4)))
+ALIKE = (2, ((0, 1), (0, 1), (0, 1)))
+TWO_ALIKE = (3, ((0, 1), (1, 2), (0, 1)))
+# Three parts, one of them a place alone, with the parts' ties mingled.
+MINGLED = (8, ((5, 7), (0, 2), (1, 7), (2, 4), (1, 5), (0, 4), (3, 4)))
+PETERSEN = (10, tuple([(k, (k + 1) % 5) if k < 4 else (0, 4) for k in range(5)]
+                      + [(k, k + 5) for k in range(5)]
+                      + [(5, 7), (7, 9), (6, 9), (6, 8), (5, 8)]))
+
+
+def complete(many):
+    return (many, tuple(itertools.combinations(range(many), 2)))
+
+
+def thick_ring(many, thick):
+    """A ring whose neighbours have so many alike ties."""
+    ties = [tuple(sorted((k, (k + 1) % many))) for k in range(many)]
+    return (many, tuple(ties * thick))
+
+
+NAMED = [NOTHING, LONE, APART, ONE_TIE, PATH, STAR, TRIANGLE, SQUARE, FIVE, ALIKE, TWO_ALIKE,
+         MINGLED, PETERSEN, complete(4), complete(5), thick_ring(3, 3), thick_ring(5, 2)]
+
+
+def small_webs(most_places=4, most_ties=3):
+    """Each web of so many places and ties at most, ties in each order."""
+    for many in range(most_places + 1):
+        pairs = list(itertools.combinations(range(many), 2))
+        for count in range(most_ties + 1):
+            for ties in itertools.product(pairs, repeat=count):
+                yield (many, tuple(ties))
+
+
+def chance_web(seed, many, count, spots=None):
+    """A web of so many places and ties, of few unlike ones where spots says how few."""
+    dice = random.Random(seed)
+    pairs = list(itertools.combinations(range(many), 2))
+    if spots is not None:
+        pairs = dice.sample(pairs, min(spots, len(pairs)))
+    return (many, tuple([dice.choice(pairs) for k in range(count)]))
+
+
+def greater_webs():
+    yield from [chance_web(seed, 6 + seed, 9 + seed) for seed in range(8)]
+    yield from [chance_web(seed, 5, 18, 6) for seed in range(20, 26)]
+    yield chance_web(50, 30, 90)
+    yield chance_web(51, 12, 90)
+
+
+def meet(web, one, other):
+    return one != other and bool(set(web[1][one]) & set(web[1][other]))
+
+
+def is_good(web, row):
+    """Whether a row of hues and Nones is a hueing, by the words of the document."""
+    if not isinstance(row, list) or len(row) != len(web[1]):
+        return False
+    if any(type(hue) is not int or hue < 0 for hue in row if hue is not None):
+        return False
+    return not any(row[one] is not None and row[one] == row[other] and meet(web, one, other)
+                   for one, other in itertools.combinations(range(len(row)), 2))
+
+
+def hueing_of(web, seed=0, gaps=0, extra=1):
+    """A hueing by chance; of each ten ties some so many are left without a hue."""
+    dice = random.Random(seed)
+    row = [None] * len(web[1])
+    for tie in dice.sample(range(len(row)), len(row)):
+        if dice.randrange(10) < gaps:
+            continue
+        taken = [row[k] for k in range(len(row)) if meet(web, k, tie)]
+        free = [hue for hue in range(len(row) + extra) if hue not in taken]
+        row[tie] = dice.choice(free[:1 + extra])
+    return row
+
+
+def nested(depth):
+    thing = 0
+    for k in range(depth):
+        thing = [thing] if k % 2 else (thing,)
+    return thing
+
+
+ODD_THINGS = [
+    None, True, False, 0, 1, -1, 10 ** 40, -10 ** 40, "", "web", "sides", "ring", "hue",
+    (), [], (0,), [0], (None,), [None], (None, None), (True,), [True], [False], ("",), ("sides",),
+    (0, ()), (0, []), [0, ()], (True, ()), (False, ()), (0, (), ()), (0, None), (0, 0), (-1, ()),
+    ("0", ()), (None, ()), (2, ((0, 1),)), (2, [(0, 1)]), (2, ([0, 1],)), (2, ((1, 0),)), (2, ((0, 0),)),
+    (2, ((0, 2),)), (2, ((-1, 1),)), (2, ((0, 1, 1),)), (2, ((0,),)), (2, ((False, 1),)), (2, ((0, True),)),
+    (2, (("0", "1"),)), (2, ("01",)), (2, (None,)), (2, (0, 1)), (2, ((0, None),)), (2, (((0,), 1),)),
+    ("sides", None), ("sides", ()), ("sides", []), ["sides", []], ("sides", [], []), ("sides", 0), ("sides", "01"),
+    ("sides", [0, True]), ("sides", [False, 1]), ("sides", [[0], 1]), ("sides", [None]), ("sides", [2]),
+    ("ring", None), ("ring", []), ("ring", [0]), ("ring", [True, 0, 2]), ("ring", [None, None, None]),
+    ("ring", [-1, 0, 1]), ("ring", [0, 1, 10 ** 40]), ("ring", "012"), ("ring", [[0], [1], [2]]),
+    ("ring", ["0", "1", "2"]), (None, []), ([], []), (0, [0, 1, 0]), ([0], [0]), (("sides",), []), (True, True),
+    ["0"], [[0]], [(0,)], [-1], [0, 1, 0], [0, 1, 2], [2, 1, 0], (0, 1, 2), [0, None, 1], [None, None, None],
+    [0, 1, True], [0, 1, -1], [0, 1, "2"], [0, 1, [2]], [0, 1, 10 ** 40], [0, 1, 2, 3], [True, False, None],
+    nested(39), nested(40), [nested(39)], (nested(39), nested(39)), ("ring", nested(39)), ("sides", nested(38)),
+    (0, nested(39)), (2, (nested(38),)), ("ring", [nested(38)] * 3),
+]
+
+
+def as_tuples(thing):
+    """The thing with tuples in all lists' places."""
+    if isinstance(thing, (list, tuple)):
+        return tuple([as_tuples(item) for item in thing])
+    return thing
+
+
+def lists_in(thing):
+    if not isinstance(thing, (list, tuple)):
+        return []
+    own = [thing] if isinstance(thing, list) else []
+    return own + [found for item in thing for found in lists_in(item)]
+
+
+def told(thing):
+    """The thing as a text, so that True and 1, lists and tuples are unlike."""
+    return repr(thing)
+
+
+def spoil(thing):
+    for found in lists_in(thing):
+        found.append("spoilt")
+        found[0] = "spoilt"
+
+
+class Asking(unittest.TestCase):
+    """Asks, and looks each time at what holds for every question."""
+
+    def ask(self, deed, *things):
+        before = told(things)
+        answer = deed(*things)
+        self.assertEqual(told(things), before, "what was handed in was changed")
+        again = deed(*things)
+        marks = [id(found) for found in lists_in(answer) + lists_in(again)]
+        self.assertEqual(len(set(marks)), len(marks), "two told lists are one and the same")
+        handed = [id(found) for found in lists_in(things)]
+        self.assertEqual(set(marks) & set(handed), set(), "a list that was handed in is told")
+        kept = told(answer)
+        self.assertEqual(told(again), kept, "the same question was told otherwise")
+        spoil(again)
+        self.assertEqual(told(answer), kept, "changing one answer changed another")
+        self.assertEqual(told(things), before, "changing an answer changed what was handed in")
+        self.assertEqual(told(deed(*things)), kept, "changing an answer changed a later one")
+        swapped = [as_tuples(thing) for thing in things]
+        self.assertEqual(told(deed(*swapped)), kept, "tuples in lists' places were told otherwise")
+        return answer
+
+    def truth(self, deed, *things):
+        """Asks whether something is so, of a thing of any kind."""
+        before = told(things)
+        answer = deed(*things)
+        self.assertIs(type(answer), bool, things)
+        self.assertIs(deed(*things), answer, things)
+        self.assertEqual(told(things), before, "what was handed in was changed")
+        return answer
+
+    def refused(self, kind, deed, *things):
+        for handed in (things, [as_tuples(thing) for thing in things]):
+            before = told(handed)
+            with self.assertRaises(HueError) as caught:
+                deed(*handed)
+            self.assertIs(type(caught.exception), kind)
+            self.assertEqual(told(handed), before, "a refusal changed something")
+        return caught.exception
