@@ -90,6 +90,83 @@ def hueing_of(web, seed=0, gaps=0, extra=1):
     return row
 
 
+def narrow_hueing(web, hues, seed=0):
+    """A hueing below hues, by chance, in which ties for which there was no hue left are without one."""
+    dice = random.Random(seed)
+    row = [None] * len(web[1])
+    for tie in dice.sample(range(len(row)), len(row)):
+        taken = [row[k] for k in range(len(row)) if meet(web, k, tie)]
+        free = [hue for hue in range(hues) if hue not in taken]
+        row[tie] = dice.choice(free) if free else None
+    return row
+
+
+def whole_hueings(web, hues):
+    for row in itertools.product(range(hues), repeat=len(web[1])):
+        if is_good(web, list(row)):
+            yield list(row)
+
+
+def some_hueings(web, hues):
+    for row in itertools.product((None,) + tuple(range(hues)), repeat=len(web[1])):
+        if is_good(web, list(row)):
+            yield list(row)
+
+
+def enough(web):
+    """most_at and thickest together, by their words."""
+    ends = [place for tie in web[1] for place in tie]
+    return (max([ends.count(place) for place in ends], default=0)
+            + max([web[1].count(tie) for tie in web[1]], default=0))
+
+
+def one_at(web, row, place, hue):
+    """The number of the tie of that hue at the place, or None."""
+    found = [tie for tie, ends in enumerate(web[1]) if place in ends and row[tie] == hue]
+    return found[0] if found else None
+
+
+def walk(web, row, place, one, other):
+    """The ties of row_from, by its words; None where it is refused."""
+    if place not in range(web[0]) or one == other or one_at(web, row, place, other) is not None:
+        return None
+    ties = []
+    while one_at(web, row, place, one) is not None:
+        tie = one_at(web, row, place, one)
+        ties.append(tie)
+        place = sum(web[1][tie]) - place
+        one, other = other, one
+    return ties
+
+
+def behind(web, row, step):
+    """The hueing behind a step, by the words of the document; None where it isn't let by."""
+    word, *parts = step
+    new = list(row)
+    if word == "row":
+        place, one, other = parts
+        ties = walk(web, row, place, one, other)
+        if ties is None:
+            return None
+        for tie in ties:
+            new[tie] = {one: other, other: one}[row[tie]]
+        return new
+    if any(tie not in range(len(row)) for tie in (parts[:1] if word == "hue" else parts)):
+        return None
+    if word == "hue":
+        fits = row[parts[0]] is None and parts[1] is not None
+        new[parts[0]] = parts[1]
+    elif word == "drop":
+        fits = row[parts[0]] is not None
+        new[parts[0]] = None
+    else:
+        tie, other = parts
+        fits = row[tie] is not None and row[other] is None and meet(web, tie, other)
+        new[other] = row[tie]
+        new[tie] = None
+    return new if fits and is_good(web, new) else None
+
+
 def nested(depth):
     thing = 0
     for k in range(depth):
@@ -171,6 +248,20 @@ class Asking(unittest.TestCase):
         self.assertIs(deed(*things), answer, things)
         self.assertEqual(told(things), before, "what was handed in was changed")
         return answer
+
+    def play(self, web, row, steps, hues, words):
+        """Plays steps of these words and of hues below hues; tells the hueing that they lead to."""
+        self.assertIs(type(steps), list)
+        now = list(row)
+        for step in steps:
+            self.assertIs(type(step), tuple)
+            self.assertIn(step[0], words)
+            now = behind(web, now, step)
+            self.assertIsNotNone(now, (web, row, steps))
+            self.assertTrue(is_good(web, now))
+            named = step[2:] if step[0] in ("hue", "row") else ()
+            self.assertTrue(all(hue in range(hues) for hue in named + tuple(now) if hue is not None))
+        return now
 
     def refused(self, kind, deed, *things):
         for handed in (things, [as_tuples(thing) for thing in things]):
