@@ -1,4 +1,4 @@
-"""What whole numbers and lists are, of things of any kind."""
+"""What whole numbers, lists and pairs are, of things of any kind."""
 
 
 def is_number(thing):
@@ -12,3 +12,10 @@ def is_listed(thing):
 
 def is_pair(thing):
     return isinstance(thing, tuple) and len(thing) == 2
+
+
+def is_rising(thing):
+    """Whether it is a list of numbers that rises."""
+    if not is_listed(thing) or not all([is_number(item) for item in thing]):
+        return False
+    return all([thing[at] < thing[at + 1] for at in range(len(thing) - 1)])

@@ -1,5 +1,6 @@
 """Two sides of a web, or a ring that shows that it has none."""
 
+from huedties.errors import NotTwoSides
 from huedties.plain import is_listed, is_number, is_pair
 from huedties.webs import far_end, has_tie, parts, ties_at
 
@@ -48,6 +49,14 @@ def two_sides(web):
         if sides[one] == sides[other]:
             return ("ring", ring_through(web, tie, back))
     return ("sides", sides)
+
+
+def sides_of(web):
+    """The sides of a web that has them; the refusal of all that asks for two sides."""
+    word, row = two_sides(web)
+    if word == "ring":
+        raise NotTwoSides(row)
+    return row
 
 
 def are_sides(web, row):

@@ -3,7 +3,7 @@
 from huedties.errors import NoPlace, NoRow, NoStep
 from huedties.hueings import is_hue, is_hueing
 from huedties.rows import exchanged, row_from
-from huedties.webs import has_tie
+from huedties.webs import has_tie, meets
 
 
 def tie_has_hue(web, hueing, tie):
@@ -38,7 +38,7 @@ def after_drop(web, hueing, tie):
 def after_move(web, hueing, tie, other):
     if not tie_has_hue(web, hueing, tie) or not tie_lacks_hue(web, hueing, other):
         return None
-    if not any([place in web[1][other] for place in web[1][tie]]):
+    if not meets(web, tie, other):
         return None
     return with_hues(web, hueing, [(tie, None), (other, hueing[tie])])
 

@@ -73,6 +73,10 @@ def far_end(web, tie, place):
     raise NoPlace("the tie has no such place")
 
 
+def meets(web, one, other):
+    return one != other and any([place in web[1][other] for place in web[1][one]])
+
+
 def parts(web):
     # Each place bears the least place that is known to be in its part.
     least = list(range(web[0]))

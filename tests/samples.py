@@ -4,7 +4,8 @@ import itertools
 import random
 import unittest
 
-from huedties.errors import HueError
+from huedties.errors import HueError, NotTwoSides
+from huedties.sides import shows_sides, two_sides
 
 NOTHING = (0, ())
 LONE = (1, ())
@@ -47,6 +48,15 @@ def small_webs(most_places=4, most_ties=3):
                 yield (many, tuple(ties))
 
 
+def small_sided_webs(most_places=4, most_ties=3):
+    """Those of two sides; four places are at most."""
+    for web in small_webs(most_places, most_ties):
+        # With so few places an odd ring has three.
+        threes = [set(itertools.combinations(three, 2)) for three in itertools.combinations(range(4), 3)]
+        if not any(three <= set(web[1]) for three in threes):
+            yield web
+
+
 def chance_web(seed, many, count, spots=None):
     """A web of so many places and ties, of few unlike ones where spots says how few."""
     dice = random.Random(seed)
@@ -61,6 +71,36 @@ def greater_webs():
     yield from [chance_web(seed, 5, 18, 6) for seed in range(20, 26)]
     yield chance_web(50, 30, 90)
     yield chance_web(51, 12, 90)
+
+
+def sided_web(seed, one, other, count, spots=None):
+    """A web of two sides of so many places, which are mingled, of few unlike ties where spots says how few."""
+    dice = random.Random(seed)
+    names = dice.sample(range(one + other), one + other)
+    pairs = [tuple(sorted((names[k], names[one + j]))) for k in range(one) for j in range(other)]
+    if spots is not None:
+        pairs = dice.sample(pairs, min(spots, len(pairs)))
+    return (one + other, tuple([dice.choice(pairs) for k in range(count)]))
+
+
+def full_sides(one, other, thick=1):
+    """Each place of the one side tied so many times with each of the other."""
+    return (one + other, tuple([(k, one + j) for k in range(one) for j in range(other)] * thick))
+
+
+# Trees, rings, stars, thick ties, several parts, and webs of everyday size, all of two sides.
+SIDED = [NOTHING, LONE, APART, ONE_TIE, PATH, STAR, SQUARE, ALIKE, TWO_ALIKE, full_sides(2, 3), full_sides(3, 3),
+         full_sides(4, 4, 2), full_sides(1, 6, 3), thick_ring(4, 3), thick_ring(6, 5), thick_ring(30, 3),
+         (2, ((0, 1),) * 90), (9, ((1, 8), (0, 3), (0, 3), (2, 3), (4, 8), (4, 5), (1, 5), (2, 6))),
+         full_sides(9, 10), full_sides(15, 6)]
+SIDED += [sided_web(seed, 2 + seed % 5, 1 + seed % 4, 3 + seed) for seed in range(20)]
+SIDED += [sided_web(seed, 5, 6, 25, 12) for seed in range(20, 30)]
+SIDED += [sided_web(30, 15, 15, 90), sided_web(31, 15, 15, 90, 30), sided_web(32, 4, 26, 90), sided_web(33, 10, 12, 40)]
+
+# A ring of five at the end of a way that has parts of two sides around it, too.
+UNSIDED = [TRIANGLE, FIVE, MINGLED, PETERSEN, complete(4), thick_ring(3, 2), thick_ring(5, 2), thick_ring(29, 3),
+           (12, ((0, 1), (2, 3), (3, 4), (4, 5), (5, 6), (6, 7), (7, 8), (4, 8), (9, 11), (9, 11))),
+           chance_web(60, 30, 90), chance_web(61, 8, 90)]
 
 
 def meet(web, one, other):
@@ -167,6 +207,50 @@ def behind(web, row, step):
     return new if fits and is_good(web, new) else None
 
 
+def few_hues(web, hues):
+    """Tells of a way, a tuple of pairs (tie, hue), and a tie the hues that [13] has trees for there."""
+    def open_to(way, tie):
+        unlike = {hue for other, hue in way}
+        taken = {hue for other, hue in way if meet(web, tie, other)}
+        return [hue for hue in range(len(web[1]) + 1) if hue < hues and hue <= len(unlike) and hue not in taken]
+    return open_to
+
+
+def list_hues(web, lists):
+    """Tells of a way and a tie the hues that [15] has trees for there."""
+    def open_to(way, tie):
+        taken = {hue for other, hue in way if meet(web, tie, other)}
+        return [hue for hue in sorted(lists[tie]) if hue not in taken]
+    return open_to
+
+
+def is_tree(web, open_to, tree, way=()):
+    """Whether anything is a tree by the words of the document, behind a way."""
+    if type(tree) is not tuple or len(tree) != 2 or type(tree[1]) is not tuple or type(tree[0]) is not int:
+        return False
+    tie, trees = tree
+    if tie not in range(len(web[1])) or tie in [other for other, hue in way]:
+        return False
+    hues = open_to(way, tie)
+    return len(trees) == len(hues) and all(is_tree(web, open_to, later, way + ((tie, hue),))
+                                           for hue, later in zip(hues, trees))
+
+
+def grown(web, open_to, dice, way=()):
+    """A tree by a search of its own, ties chosen by chance; None where there is a whole hueing."""
+    left = [tie for tie in range(len(web[1])) if tie not in [other for other, hue in way]]
+    if not left:
+        return None
+    tie = dice.choice(left)
+    trees = []
+    for hue in open_to(way, tie):
+        later = grown(web, open_to, dice, way + ((tie, hue),))
+        if later is None:
+            return None
+        trees.append(later)
+    return (tie, tuple(trees))
+
+
 def nested(depth):
     thing = 0
     for k in range(depth):
@@ -191,6 +275,28 @@ ODD_THINGS = [
     nested(39), nested(40), [nested(39)], (nested(39), nested(39)), ("ring", nested(39)), ("sides", nested(38)),
     (0, nested(39)), (2, (nested(38),)), ("ring", [nested(38)] * 3),
 ]
+
+
+STAND_INS = [None, True, False, -1, 0, 1, 2, 10 ** 40, "", "0", (), [], (0,), [0], (0, ()), nested(20)]
+
+
+def variants(thing):
+    """The thing with just one thing in it otherwise: each part another one, left out, twice, lists for tuples."""
+    yield from STAND_INS
+    if isinstance(thing, int):
+        yield from [thing + 1, thing - 1, -thing - 1, str(thing)]
+    if isinstance(thing, (list, tuple)):
+        kind = type(thing)
+        yield list(thing) if kind is tuple else tuple(thing)
+        yield thing + kind([0])
+        yield thing + kind([None])
+        yield thing + kind([()])
+        yield thing[::-1]
+        for at, item in enumerate(thing):
+            yield thing[:at] + thing[at + 1:]
+            yield thing[:at] + thing[at:at + 1] + thing[at:]
+            for other in variants(item):
+                yield thing[:at] + kind([other]) + thing[at + 1:]
 
 
 def as_tuples(thing):
@@ -262,6 +368,15 @@ class Asking(unittest.TestCase):
             named = step[2:] if step[0] in ("hue", "row") else ()
             self.assertTrue(all(hue in range(hues) for hue in named + tuple(now) if hue is not None))
         return now
+
+    def unsided(self, deed, web, *things):
+        """Asks what is refused of a web without two sides, and looks at the ring."""
+        rings = [self.refused(NotTwoSides, deed, web, *things).ring for turn in range(3)]
+        for ring in rings:
+            self.assertIs(type(ring), list)
+            self.assertTrue(shows_sides(web, ("ring", ring)))
+            self.assertEqual(ring, two_sides(web)[1])
+            spoil(ring)
 
     def refused(self, kind, deed, *things):
         for handed in (things, [as_tuples(thing) for thing in things]):

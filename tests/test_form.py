@@ -99,6 +99,41 @@ class Form(unittest.TestCase):
             self.assertTrue(free, "files draw from one another")
             drawn = {name: drawn[name] for name in drawn if name not in free}
 
+    def test_locals_bear_names_of_their_own(self):
+        for name, tree in self.trees.items():
+            drawn = {alias.name for row in tree.body if isinstance(row, ast.ImportFrom) for alias in row.names}
+            drawn |= {row.name for row in tree.body if isinstance(row, ast.ClassDef)}
+            given = {node.id for node in ast.walk(tree) if isinstance(node, ast.Name) and not isinstance(node.ctx, ast.Load)}
+            given |= {node.arg for node in ast.walk(tree) if isinstance(node, ast.arg)}
+            self.assertEqual(given & drawn, set(), name)
+            self.assertEqual([word for word in given | drawn if word.startswith("_")], [], name)
+
+    def test_methods_and_values_bear_unlike_names(self):
+        values = {node.attr for tree in self.trees.values() for node in ast.walk(tree)
+                  if isinstance(node, ast.Attribute) and isinstance(node.ctx, ast.Store)}
+        self.assertEqual(values & set(self.own_methods()), set())
+        self.assertEqual(values & set(METHODS) - {"count", "index", "find", "get", "join", "split", "copy"}, set())
+
+    def test_what_is_walked_is_not_kept(self):
+        walked = ("range", "zip", "enumerate", "reversed", "items", "keys", "values")
+        for name, tree in self.trees.items():
+            for node in ast.walk(tree):
+                if isinstance(node, (ast.Assign, ast.Return)) and isinstance(node.value, ast.Call):
+                    called = node.value.func
+                    word = called.id if isinstance(called, ast.Name) else called.attr
+                    self.assertNotIn(word, walked, (name, node.lineno))
+
+    def test_sets_are_asked_on_the_spot_or_kept_once(self):
+        for name, tree in self.trees.items():
+            above = {inner: node for node in ast.walk(tree) for inner in ast.iter_child_nodes(node)}
+            for node in ast.walk(tree):
+                called = node.func.id if isinstance(node, ast.Call) and isinstance(node.func, ast.Name) else None
+                if called == "set" or isinstance(node, (ast.SetComp, ast.Set)):
+                    over = above[node]
+                    spot = isinstance(over, ast.Call) and isinstance(over.func, ast.Name) and over.func.id in ("len", "sorted")
+                    self.assertTrue(spot or isinstance(over, (ast.Compare, ast.BinOp, ast.Assign)), (name, node.lineno))
+                self.assertNotEqual(called, "frozenset", name)
+
     def test_is_stands_beside_none_true_and_false(self):
         for name, tree in self.trees.items():
             for node in ast.walk(tree):

@@ -1,0 +1,37 @@
+"""Trees that show that ties can't all get hues out of their lists.
+
+A node is a tuple (tie, trees), with a tree for each hue that the tie may have on the way. A way is a dict of the hues
+of the ties from the first node on. Where alike is True, the hues that aren't on the way are alike, so that the least
+of them does for all.
+"""
+
+from huedties.plain import is_pair
+from huedties.webs import has_tie, meets
+
+
+def open_hues(web, lists, alike, way, tie):
+    """The hues of its list that a tie may have on the way, rising."""
+    taken = [hue for other, hue in way.items() if meets(web, tie, other)]
+    free = [hue for hue in lists[tie] if hue not in taken]
+    if not alike:
+        return free
+    known = len(set(list(way.values())))
+    return [hue for hue in free if hue <= known]
+
+
+def closes(web, lists, alike, way, tree):
+    """Whether anything is a tree that shows that the way can't be gone on to a whole hueing."""
+    if not is_pair(tree) or not isinstance(tree[1], tuple):
+        return False
+    tie, trees = tree
+    if not has_tie(web, tie) or tie in way:
+        return False
+    hues = open_hues(web, lists, alike, way, tie)
+    if len(trees) != len(hues):
+        return False
+    for hue, later in zip(hues, trees):
+        longer = dict(way)
+        longer[tie] = hue
+        if not closes(web, lists, alike, longer, later):
+            return False
+    return True
