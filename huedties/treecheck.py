@@ -9,6 +9,11 @@ from huedties.plain import is_pair
 from huedties.webs import has_tie, meets
 
 
+def lists_of(hueing, hues):
+    """The list of each tie, where those that have hues keep them and the others may have all below hues."""
+    return [list(range(hues)) if hue is None else [hue] for hue in hueing]
+
+
 def open_hues(web, lists, alike, way, tie):
     """The hues of its list that a tie may have on the way, rising."""
     taken = [hue for other, hue in way.items() if meets(web, tie, other)]

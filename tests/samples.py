@@ -251,6 +251,62 @@ def grown(web, open_to, dice, way=()):
     return (tie, tuple(trees))
 
 
+def ends_of(web):
+    return [place for tie in web[1] for place in tie]
+
+
+def is_paper(web, hues, paper):
+    """Whether anything is a paper of [13], by the words of the document."""
+    if type(paper) is not tuple or len(paper) != 2 or type(paper[0]) is not str:
+        return False
+    word, thing = paper
+    if word == "place":
+        return type(thing) is int and thing in range(web[0]) and ends_of(web).count(thing) > hues
+    if word == "set":
+        if type(thing) is not tuple or any(type(place) is not int for place in thing):
+            return False
+        if list(thing) != sorted(set(thing)) or not set(thing) <= set(range(web[0])):
+            return False
+        inside = [tie for tie in web[1] if set(tie) <= set(thing)]
+        return any(len(thing) == 2 * k + 1 and len(inside) > hues * k for k in range(1, 40))
+    return word == "tree" and is_tree(web, few_hues(web, hues), thing)
+
+
+def is_fewest(web, thing):
+    """Whether anything is what shows_fewest takes, by the words of the document."""
+    if type(thing) is not tuple or len(thing) != 3 or type(thing[0]) is not int or type(thing[1]) not in (list, tuple):
+        return False
+    number, hueing, paper = thing
+    if number < 0 or not is_good(web, list(hueing)) or any(hue is None or hue >= number for hue in hueing):
+        return False
+    return paper is None if number == 0 else is_paper(web, number - 1, paper)
+
+
+def has_hueing(web, lists, row=()):
+    """Whether there is a whole hueing out of the lists, tie by tie in their order."""
+    tie = len(row)
+    if tie == len(web[1]):
+        return True
+    taken = [row[other] for other in range(tie) if meet(web, tie, other)]
+    return any(has_hueing(web, lists, row + (hue,)) for hue in lists[tie] if hue not in taken)
+
+
+def is_out_of(web, lists, thing):
+    """Whether anything is a pair of [15], by the words of the document."""
+    if type(thing) is not tuple or len(thing) != 2 or type(thing[0]) is not str:
+        return False
+    word, told = thing
+    if word == "hueing":
+        if type(told) not in (list, tuple) or not is_good(web, list(told)):
+            return False
+        return all(hue is not None and hue in hues for hue, hues in zip(told, lists))
+    return word == "none" and is_tree(web, list_hues(web, lists), told)
+
+
+def lists_ahead(hueing, hues):
+    return [list(range(hues)) if hue is None else [hue] for hue in hueing]
+
+
 def nested(depth):
     thing = 0
     for k in range(depth):

@@ -7,7 +7,7 @@ import unittest
 from huedties.fewcheck import shows_fewer, shows_fewest
 
 from samples import (ALIKE, APART, FIVE, LONE, NAMED, NOTHING, ODD_THINGS, ONE_TIE, PATH, PETERSEN, SQUARE, STAR,
-                     TRIANGLE, TWO_ALIKE, Asking, complete, few_hues, greater_webs, grown, is_good, is_tree, nested,
+                     TRIANGLE, TWO_ALIKE, Asking, complete, few_hues, greater_webs, grown, is_fewest, is_paper, nested,
                      small_webs, thick_ring, variants, whole_hueings)
 
 # Trees: a tie, then the tree for each hue that it may have.
@@ -17,37 +17,6 @@ THREE_TREE = ("tree", (0, ((1, ((2, ()),)),)))
 FIVE_TREE = ("tree", (0, ((1, ((2, ((3, ((4, ()),)),)),)),)))
 # There, too, with a tie that doesn't meet the first, so may have either hue: so it has two trees.
 FORKED = ("tree", (0, ((2, ((3, ((4, ()),)), (1, ()))),)))
-
-
-def ends_of(web):
-    return [place for tie in web[1] for place in tie]
-
-
-def is_paper(web, hues, paper):
-    """Whether anything is a paper, by the words of the document."""
-    if type(paper) is not tuple or len(paper) != 2 or type(paper[0]) is not str:
-        return False
-    word, thing = paper
-    if word == "place":
-        return type(thing) is int and thing in range(web[0]) and ends_of(web).count(thing) > hues
-    if word == "set":
-        if type(thing) is not tuple or any(type(place) is not int for place in thing):
-            return False
-        if list(thing) != sorted(set(thing)) or not set(thing) <= set(range(web[0])):
-            return False
-        inside = [tie for tie in web[1] if set(tie) <= set(thing)]
-        return any(len(thing) == 2 * k + 1 and len(inside) > hues * k for k in range(1, 40))
-    return word == "tree" and is_tree(web, few_hues(web, hues), thing)
-
-
-def is_right(web, thing):
-    """Whether anything is what shows_fewest takes, by the words of the document."""
-    if type(thing) is not tuple or len(thing) != 3 or type(thing[0]) is not int or type(thing[1]) not in (list, tuple):
-        return False
-    number, hueing, paper = thing
-    if number < 0 or not is_good(web, list(hueing)) or any(hue is None or hue >= number for hue in hueing):
-        return False
-    return paper is None if number == 0 else is_paper(web, number - 1, paper)
 
 
 class ShowsFewer(Asking):
@@ -248,7 +217,7 @@ class ShowsFewer(Asking):
 class ShowsFewest(Asking):
 
     def check(self, web, thing):
-        expected = is_right(web, thing)
+        expected = is_fewest(web, thing)
         self.assertIs(self.truth(shows_fewest, web, thing), expected, (web, thing))
         return expected
 
