@@ -4,7 +4,7 @@ from huedties.webs import meets
 
 
 class Search:
-    """Gives ties hues out of their lists: now has those that they have got."""
+    """Gives ties hues out of their lists: now has those that they have got, found the trees of what was tried."""
 
     def __init__(self, web, lists, alike):
         count = len(web[1])
@@ -13,6 +13,7 @@ class Search:
         self.lists = [list(hues) for hues in lists]
         self.alike = alike
         self.now = [None] * count
+        self.found = {}
 
     def open_hues(self, tie, known):
         """The hues that a tie may have; known is how many hues are on the way, where those that aren't are alike."""
@@ -51,10 +52,20 @@ class Search:
                     waiting.append(other)
         return group
 
-    def closed_group(self, ties, known):
-        """A tree that shows that these ties can't get hues; None where they have got them."""
-        choices = {tie: self.open_hues(tie, known) for tie in ties}
-        tie = self.chosen(choices)
+    def closed_group(self, ties, choices, known):
+        """A tree that shows that these ties, of these open hues, can't get hues; None where they have got them."""
+        # What comes hangs on these alone, and many ways lead to the same.
+        case = (known if self.alike else 0, tuple([(tie, tuple(choices[tie])) for tie in sorted(ties)]))
+        if case not in self.found:
+            tree = self.grown(ties, choices, known)
+            if tree is None:
+                return None
+            self.found[case] = tree
+        return self.found[case]
+
+    def grown(self, ties, choices, known):
+        """Such a tree or None, by trying the open hues of one of the ties."""
+        tie = self.chosen({other: choices[other] for other in ties})
         rest = [other for other in ties if other != tie]
         trees = []
         for hue in choices[tie]:
@@ -68,12 +79,18 @@ class Search:
 
     def closed(self, ties, known):
         """Such a tree, too; ties that don't lead to one another are asked group by group, as none hinders the other."""
+        choices = {}
+        for tie in ties:
+            choices[tie] = self.open_hues(tie, known)
+            # Most ways end here, so nothing else is reckoned ahead of it.
+            if not choices[tie]:
+                return (tie, ())
         left = {tie: True for tie in ties}
         done = []
         for tie in ties:
             if tie in left:
                 group = self.group_of(tie, left)
-                tree = self.closed_group(group, known)
+                tree = self.closed_group(group, choices, known)
                 if tree is not None:
                     self.drop(done)
                     return tree

@@ -6,7 +6,7 @@ of them does for all.
 """
 
 from huedties.plain import is_pair
-from huedties.webs import has_tie, meets
+from huedties.webs import has_tie
 
 
 def lists_of(hueing, hues):
@@ -15,8 +15,9 @@ def lists_of(hueing, hues):
 
 
 def open_hues(web, lists, alike, way, tie):
-    """The hues of its list that a tie may have on the way, rising."""
-    taken = [hue for other, hue in way.items() if meets(web, tie, other)]
+    """The hues of its list that a tie, which isn't on the way, may have there, rising."""
+    one, other = web[1][tie]
+    taken = [hue for near, hue in way.items() if one in web[1][near] or other in web[1][near]]
     free = [hue for hue in lists[tie] if hue not in taken]
     if not alike:
         return free
