@@ -3,7 +3,7 @@
 from huedties.errors import NoFan, TooFew
 from huedties.hueings import free_at
 from huedties.story import done_step, played
-from huedties.webs import check_tie, far_end, most_at, thickest, ties_at
+from huedties.webs import check_tie, enough, far_end, ties_at
 
 
 def next_of_fan(hueing, fan, around, free):
@@ -91,7 +91,7 @@ def steps_to_hue(web, hueing, tie, hues):
 
 
 def check_enough(web, hues):
-    if hues < most_at(web) + thickest(web):
+    if hues < enough(web):
         raise TooFew("fewer hues than most_at and thickest together")
 
 

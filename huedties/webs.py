@@ -63,6 +63,11 @@ def thickest(web):
     return max(list(counts.values()), default=0)
 
 
+def enough(web):
+    """So many hues always do."""
+    return most_at(web) + thickest(web)
+
+
 def far_end(web, tie, place):
     check_tie(web, tie)
     one, other = web[1][tie]

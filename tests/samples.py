@@ -307,6 +307,89 @@ def lists_ahead(hueing, hues):
     return [list(range(hues)) if hue is None else [hue] for hue in hueing]
 
 
+def is_dear(web, hueing, hues, number, way):
+    """Whether so many or more of the ties that had hues have another one behind a way, by the words of [19]."""
+    own = dict(way)
+    count = 0
+    for tie, hue in enumerate(hueing):
+        if hue is None:
+            continue
+        if tie in own:
+            count += own[tie] != hue
+        elif hue >= hues or any(meet(web, tie, other) and own[other] == hue for other in own):
+            count += 1
+    return count >= number
+
+
+def is_change_tree(web, hueing, hues, number, tree, way=()):
+    """Whether anything is a tree of [19] behind a way, of try alone where number is None."""
+    if type(tree) is not tuple or len(tree) == 0:
+        return False
+    if tree[0] == "dear":
+        return len(tree) == 1 and number is not None and is_dear(web, hueing, hues, number, way)
+    if tree[0] != "try" or len(tree) != 3 or type(tree[1]) is not int or type(tree[2]) is not tuple:
+        return False
+    tie, trees = tree[1:]
+    if tie not in range(len(web[1])) or tie in [other for other, hue in way]:
+        return False
+    taken = [hue for other, hue in way if meet(web, tie, other)]
+    free = [hue for hue in range(hues) if hue not in taken]
+    return len(free) == len(trees) and all(is_change_tree(web, hueing, hues, number, later, way + ((tie, hue),))
+                                           for hue, later in zip(free, trees))
+
+
+def is_changed(web, hueing, hues, thing):
+    """Whether anything is what shows_changed takes, by the words of the document."""
+    if type(thing) is not tuple or len(thing) == 0:
+        return False
+    if thing[0] == "none":
+        return len(thing) == 2 and is_change_tree(web, hueing, hues, None, thing[1])
+    if thing[0] != "least" or len(thing) != 4 or type(thing[1]) is not int or type(thing[2]) not in (list, tuple):
+        return False
+    number, whole, tree = thing[1:]
+    if not is_good(web, list(whole)) or any(hue is None or hue >= hues for hue in whole):
+        return False
+    other = [tie for tie, hue in enumerate(hueing) if hue is not None and whole[tie] != hue]
+    return len(other) == number and is_change_tree(web, hueing, hues, number, tree)
+
+
+def change_tree(web, hueing, hues, number, dice, way=()):
+    """A tree of [19] grown by chance, of try alone where number is None; None where there is none."""
+    if number is not None and is_dear(web, hueing, hues, number, way) and dice.randrange(4):
+        return ("dear",)
+    left = [tie for tie in range(len(web[1])) if tie not in [other for other, hue in way]]
+    if not left:
+        return ("dear",) if number is not None and is_dear(web, hueing, hues, number, way) else None
+    tie = dice.choice(left)
+    taken = [hue for other, hue in way if meet(web, tie, other)]
+    trees = []
+    for hue in [hue for hue in range(hues) if hue not in taken]:
+        later = change_tree(web, hueing, hues, number, dice, way + ((tie, hue),))
+        if later is None:
+            return None
+        trees.append(later)
+    return ("try", tie, tuple(trees))
+
+
+def fewest_changes(web, hueing, hues):
+    """The least number of changes of [19], by a search of its own, tie by tie; None without a whole hueing."""
+    best = [None]
+
+    def go_on(row, count):
+        if best[0] is not None and count >= best[0]:
+            return
+        tie = len(row)
+        if tie == len(web[1]):
+            best[0] = count
+            return
+        taken = [row[other] for other in range(tie) if meet(web, tie, other)]
+        for hue in range(hues):
+            if hue not in taken:
+                go_on(row + (hue,), count + (hueing[tie] not in (None, hue)))
+    go_on((), 0)
+    return best[0]
+
+
 def nested(depth):
     thing = 0
     for k in range(depth):
