@@ -307,6 +307,105 @@ def lists_ahead(hueing, hues):
     return [list(range(hues)) if hue is None else [hue] for hue in hueing]
 
 
+def reached(web, start, gone=None):
+    """All places to which ties lead from start, without the place gone and its ties."""
+    near = {place: set() for place in range(web[0])}
+    for one, other in web[1]:
+        near[one].add(other)
+        near[other].add(one)
+    found = {start}
+    waiting = [start]
+    while waiting:
+        for there in near[waiting.pop()] - found - {gone}:
+            found.add(there)
+            waiting.append(there)
+    return found
+
+
+def cuts_of(web):
+    """The cuts, by the words of [21]."""
+    told = []
+    for place in range(web[0]):
+        others = sorted(reached(web, place) - {place})
+        if others and reached(web, others[0], place) != set(others):
+            told.append(place)
+    return told
+
+
+def blocks_of(web):
+    """The blocks of [21], by a look at what still leads from the one far end to the other without the place between."""
+    block = list(range(len(web[1])))
+    for place in range(web[0]):
+        around = [tie for tie, ends in enumerate(web[1]) if place in ends]
+        for one in around:
+            found = reached(web, sum(web[1][one]) - place, place)
+            for other in around:
+                if sum(web[1][other]) - place in found:
+                    block = [block[one] if mark == block[other] else mark for mark in block]
+    return sorted([[tie for tie, mark in enumerate(block) if mark == name] for name in set(block)])
+
+
+def joined_webs():
+    """Webs joined at places: rows of ties, stars, rings joined at a place, one block, several parts, thick ties."""
+    yield (30, tuple([(k, k + 1) for k in range(29)]))
+    yield (30, tuple([(0, k) for k in range(1, 30)]))
+    # Two rings joined at place 2, rings in a row, a ring with ties hanging on, rings joined by a row of ties.
+    yield (5, ((0, 1), (1, 2), (0, 2), (2, 3), (3, 4), (2, 4)))
+    yield (21, tuple([tie for k in range(0, 20, 2) for tie in ((k, k + 1), (k + 1, k + 2), (k, k + 2))]))
+    yield (8, ((0, 1), (1, 2), (2, 3), (0, 3), (0, 4), (0, 4), (3, 5), (5, 6), (3, 7), (5, 7), (3, 6)))
+    yield (11, FIVE[1] + ((4, 5), (5, 6)) + tuple([(a + 6, b + 6) for a, b in FIVE[1]]))
+    # Webs that take one hue more than the greatest count, joined where another block has many ties, and hung on.
+    yield (13, PETERSEN[1] + ((9, 10), (10, 11), (11, 12), (10, 12)))
+    yield (9, tuple([tie for k in range(0, 8, 2) for tie in ((0, k + 1), (k + 1, k + 2), (0, k + 2))]))
+    yield (7, ((0, 1),) * 4 + ((1, 2),) * 3 + ((2, 3), (1, 3), (4, 5)))
+    yield (13, thick_ring(3, 2)[1] + ((2, 3), (3, 4), (2, 4), (2, 5), (2, 6), (7, 8), (8, 9), (10, 12)))
+    for seed in range(12):
+        yield chance_web(seed, 8 + seed, 8 + seed)
+        yield grown_web(seed, 12)
+    yield grown_web(50, 90)
+
+
+def grown_web(seed, most):
+    """A web of rings, thick ties and single ties, each hung on at a place by chance; of so many ties at most."""
+    dice = random.Random(seed)
+    many, ties = 1, []
+    while many < 27:
+        start, size = dice.randrange(many), dice.randrange(1, 5)
+        if size == 1:
+            new = [(start, many)] * dice.choice((1, 1, 2, 3))
+        else:
+            ring = [start] + list(range(many, many + size - 1))
+            new = [(ring[k], ring[(k + 1) % size]) for k in range(size)]
+        many += max(1, size - 1)
+        ties += [tuple(sorted(tie)) for tie in new]
+    names = dice.sample(range(many), many)
+    ties = [tuple(sorted((names[one], names[other]))) for one, other in ties][:most]
+    return (many, tuple(dice.sample(ties, len(ties))))
+
+
+def some_of(web, ties):
+    return (web[0], tuple([web[1][tie] for tie in ties]))
+
+
+def is_by_blocks(web, thing):
+    """Whether anything is what shows_blocks takes, by the words of the document."""
+    if type(thing) is not tuple or len(thing) != 3 or type(thing[0]) is not int or type(thing[1]) not in (list, tuple):
+        return False
+    number, hueing, paper = thing
+    if not is_good(web, list(hueing)) or any(hue is None or hue >= number for hue in hueing):
+        return False
+    if number == 0 or paper is None:
+        return number == 0 and paper is None
+    if type(paper) is not tuple or len(paper) < 2 or type(paper[1]) is not int:
+        return False
+    if paper[0] == "place":
+        return len(paper) == 2 and paper[1] in range(web[0]) and ends_of(web).count(paper[1]) == number
+    rows = blocks_of(web)
+    if paper[0] != "block" or len(paper) != 3 or paper[1] not in range(len(rows)):
+        return False
+    return is_paper(some_of(web, rows[paper[1]]), number - 1, paper[2])
+
+
 def is_dear(web, hueing, hues, number, way):
     """Whether so many or more of the ties that had hues have another one behind a way, by the words of [19]."""
     own = dict(way)
