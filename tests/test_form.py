@@ -114,6 +114,40 @@ class Form(unittest.TestCase):
         self.assertEqual(values & set(self.own_methods()), set())
         self.assertEqual(values & set(METHODS) - {"count", "index", "find", "get", "join", "split", "copy"}, set())
 
+    def test_values_that_are_asked_are_given(self):
+        given = {node.attr for tree in self.trees.values() for node in ast.walk(tree)
+                 if isinstance(node, ast.Attribute) and isinstance(node.ctx, ast.Store)}
+        for name, tree in self.trees.items():
+            called = [node.func for node in ast.walk(tree) if isinstance(node, ast.Call)]
+            for node in ast.walk(tree):
+                if isinstance(node, ast.Attribute) and node not in called:
+                    self.assertIn(node.attr, given, (name, node.lineno))
+
+    def test_errors_are_raised_and_taken_by_name(self):
+        own = {node.name for node in self.trees["errors.py"].body if isinstance(node, ast.ClassDef)}
+        for name, tree in self.trees.items():
+            for node in ast.walk(tree):
+                if isinstance(node, ast.Raise):
+                    self.assertIn(node.exc.func.id, own, (name, node.lineno))
+                if isinstance(node, ast.ExceptHandler):
+                    kinds = node.type.elts if isinstance(node.type, ast.Tuple) else [node.type]
+                    self.assertLessEqual({kind.id for kind in kinds}, own, (name, node.lineno))
+
+    def test_the_top_of_a_file(self):
+        for name, tree in self.trees.items():
+            self.assertIsNotNone(ast.get_docstring(tree), name)
+            for row in tree.body[1:]:
+                self.assertIsInstance(row, (ast.ImportFrom, ast.FunctionDef, ast.ClassDef, ast.Assign), (name, row.lineno))
+            tops = {row.targets[0].id: row.value for row in tree.body if isinstance(row, ast.Assign)}
+            for value in tops.values():
+                inner = [node for node in ast.walk(value) if isinstance(node, (ast.Dict, ast.List, ast.Call, ast.Set))]
+                self.assertLessEqual(len(inner), 1, name)
+            # What is kept at a file's top is read by an index or asked with in, never handed on or changed.
+            above = {inner: node for node in ast.walk(tree) for inner in ast.iter_child_nodes(node)}
+            for node in ast.walk(tree):
+                if isinstance(node, ast.Name) and isinstance(tops.get(node.id), ast.Dict) and isinstance(node.ctx, ast.Load):
+                    self.assertIsInstance(above[node], (ast.Subscript, ast.Compare), (name, node.lineno))
+
     def test_what_is_walked_is_not_kept(self):
         walked = ("range", "zip", "enumerate", "reversed", "items", "keys", "values")
         for name, tree in self.trees.items():
